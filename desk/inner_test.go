@@ -78,6 +78,28 @@ func TestP20_12ReopenRefuses(t *testing.T) {
 	}
 }
 
+// There is a memo for each branch, and no other.
+func TestP20_6MemosOfBranches(t *testing.T) {
+	d := innerDesk(t)
+	for _, c := range []api.Cmd{{Kind: api.CmdFork, Name: "a"}, {Kind: api.CmdFork, Name: "b"}, {Kind: api.CmdDelete, Name: "a"}, {Kind: api.CmdReopen}, {Kind: api.CmdSwitch, Name: "b"}} {
+		if r := d.Do(c); r.Err != api.OK {
+			t.Fatal(c, r.Err)
+		}
+		names := d.book.Names()
+		for _, name := range names {
+			if d.memos[name] == nil {
+				t.Errorf("%+v: no memo for %s", c, name)
+			}
+		}
+		if len(d.memos) != len(names) {
+			t.Errorf("%+v: %d memos for %d branches", c, len(d.memos), len(names))
+		}
+	}
+	if d.Do(api.Cmd{Kind: api.CmdCrash}); d.memory.memos != nil || d.memory.book != nil || d.memory.drawer != nil {
+		t.Error("a fall has left something in memory")
+	}
+}
+
 // A curve's function beyond what is a value of cents.
 func TestP20_11Beyond(t *testing.T) {
 	d := innerDesk(t)

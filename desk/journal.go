@@ -171,8 +171,8 @@ func valueOf(b []byte) api.Value {
 }
 
 // appendNumber writes a number in so many bytes, the lowest first.
-func appendNumber(b []byte, n uint64, bytes int) []byte {
-	for range bytes {
+func appendNumber(b []byte, n uint64, size int) []byte {
+	for range size {
 		b = append(b, byte(n))
 		n >>= 8
 	}

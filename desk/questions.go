@@ -22,9 +22,9 @@ func (d *Desk) memo() *incr.Memo { return d.memos[d.book.Current()] }
 // values asks for all cells, one behind the other: what they hold, and how many evaluations that took.
 func (d *Desk) values() ([]api.Value, int) {
 	var vals []api.Value
-	count := 0
+	memo, count := d.memo(), 0
 	for cell := range d.form.graph.Cells() {
-		v, made, _ := d.memo().Get(uint32(cell))
+		v, made, _ := memo.Get(uint32(cell))
 		vals = append(vals, v)
 		count += made
 	}

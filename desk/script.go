@@ -72,7 +72,7 @@ func (r *reader) take(kind int) api.Token {
 
 // sees tells whether the next token is of this kind with this text.
 func (r *reader) sees(kind int, text string) bool {
-	return r.fault == nil && len(r.left) > 0 && r.left[0].Kind == kind && r.left[0].Text == text
+	return len(r.left) > 0 && r.left[0].Kind == kind && r.left[0].Text == text
 }
 
 // takes takes the next token, if it is of this kind with this text: whether it did.

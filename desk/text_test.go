@@ -50,13 +50,31 @@ func kindsPack(t *testing.T) api.Pack {
 	return packOf(t, compiled(t, kindsText))
 }
 
-func TestP20_16Lines(t *testing.T) {
+// readAs asks for the commands that lines are read as, whatever blanks and remarks stand around them.
+func readAs(t *testing.T, lines map[string]api.Cmd) {
+	t.Helper()
 	p := kindsPack(t)
-	l := func(n ...int) []int { return n }
-	for text, want := range map[string]api.Cmd{
+	for text, want := range lines {
+		for _, s := range []string{text, "\t " + text + "  ", text + "\n", "\n\n" + text + "# so\n\n", strings.ReplaceAll(text, " ", "   ")} {
+			got, err := desk.Parse(p, s)
+			if err != nil || !sameOf(got, want) {
+				t.Errorf("%q: %+v, %v, want %+v", s, got, err, want)
+			}
+		}
+	}
+}
+
+func TestP20_15PlacesAndValues(t *testing.T) {
+	readAs(t, map[string]api.Cmd{
 		"set c 1.05": setTo(0, 0, cent(105)), "set c -1.05": setTo(0, 0, cent(-105)), "set c - 0.00": setTo(0, 0, cent(0)), "set n 7": setTo(1, 0, num(7)), "set n -7": setTo(1, 0, num(-7)),
 		"set f yes": setTo(2, 0, yes), "set f no": setTo(2, 0, no), "set d 2000-02-29": setTo(3, 0, date(36583)), "set o huge": setTo(4, 0, option(2)),
 		"set kc 2 0.01": setTo(5, 2, cent(1)), "set kc 1000000000 0.01": setTo(5, 1000000000, cent(1)), "set ko 0 joint": setTo(7, 0, option(1)), "set sum 1.00": setTo(8, 0, cent(100)), "set c 99999999999.99": setTo(0, 0, cent(api.MaxCents)),
+	})
+}
+
+func TestP20_16Lines(t *testing.T) {
+	l := func(n ...int) []int { return n }
+	readAs(t, map[string]api.Cmd{
 		"clear c": group(api.CmdClear, 0, 0), "clear kf 9": group(api.CmdClear, 6, 9), "add kid": group(api.CmdAdd, 0, 0), "add slip": group(api.CmdAdd, 1, 0), "drop slip 7": group(api.CmdDrop, 1, 7),
 		"undo": cmd(api.CmdUndo), "redo": cmd(api.CmdRedo), "forget 0": counted(api.CmdForget, 0), "forget 12": counted(api.CmdForget, 12),
 		"fork what": named(api.CmdFork, "what"), "switch in": named(api.CmdSwitch, "in"), "delete main": named(api.CmdDelete, "main"), "merge a_b": named(api.CmdMerge, "a_b"), "diff set": named(api.CmdDiff, "set"),
@@ -70,15 +88,8 @@ func TestP20_16Lines(t *testing.T) {
 		"slope sum by c from - 5.00 step 0.00 points 0 # s": {Kind: api.CmdCurve, Line: 0, List: l(8, 0, 0), Val: cent(-500), Name: "slope"},
 		"crash": cmd(api.CmdCrash), "arm 0": counted(api.CmdArm, 0), "arm 77": counted(api.CmdArm, 77), "fail 3": failing(0, 3), "fail 3 after 8": failing(8, 3), "fail 0 after 0": failing(0, 0),
 		"reopen": reopening(), "reopen 0": reopening(0), "reopen 1 2 3 4 5 6": reopening(1, 2, 3, 4, 5, 6),
-	} {
-		for _, s := range []string{text, "\t " + text + "  ", text + "\n", "\n\n" + text + "# so\n\n", strings.ReplaceAll(text, " ", "   ")} {
-			got, err := desk.Parse(p, s)
-			if err != nil || !sameOf(got, want) {
-				t.Errorf("%q: %+v, %v, want %+v", s, got, err, want)
-			}
-		}
-	}
-	if c, err := desk.Parse(p, "reopen"); err != nil || c.List != nil {
+	})
+	if c, err := desk.Parse(kindsPack(t), "reopen"); err != nil || c.List != nil {
 		t.Errorf("a list that isn't nil: %v, %v", c, err)
 	}
 }

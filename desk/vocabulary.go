@@ -118,7 +118,7 @@ func failRest(r *reader, c *api.Cmd) {
 }
 
 func reopenRest(r *reader, c *api.Cmd) {
-	for r.fault == nil && len(r.left) > 0 && len(c.List) < api.MaxArgs {
+	for len(r.left) > 0 && len(c.List) < api.MaxArgs {
 		c.List = append(c.List, r.count())
 	}
 }

@@ -10,6 +10,7 @@ import (
 	"levy/drawer"
 	"levy/eval"
 	"levy/pack"
+	"levy/sheet"
 	"levy/trace"
 )
 
@@ -24,7 +25,7 @@ var outcomes = map[int][]int{
 // Desks over packs by chance, told anything, but no faults of the disk: each reply is the model's, Count too (P21.5).
 func TestP21_1Same(t *testing.T) {
 	seen := tally{}
-	eachPair(t, 2101, 150, 12, false, func(p *pair, d *director) {
+	eachPair(t, 2101, 100, 12, false, func(p *pair, d *director) {
 		for range 250 {
 			c := d.any()
 			r := p.do(c)
@@ -45,7 +46,7 @@ func TestP21_1Same(t *testing.T) {
 // The same with faults of the disk, and falls.
 func TestP21_1SameWithFaults(t *testing.T) {
 	seen := tally{}
-	eachPair(t, 2102, 150, 12, true, func(p *pair, d *director) {
+	eachPair(t, 2102, 100, 12, true, func(p *pair, d *director) {
 		for range 250 {
 			c := d.any()
 			r := p.do(c)
@@ -61,6 +62,80 @@ func TestP21_1SameWithFaults(t *testing.T) {
 	}
 	seen.atLeast(t, 10, "kind 20: 208", "kind 23: 201", "kind 24: 201", "kind 25: 208")
 	seen.atLeast(t, 2, "kind 25: 207")
+}
+
+// greatest: 256 cells, of which 192 are inputs of lines, the greatest amounts in all of them, and 32 flags.
+func greatest() (api.Pack, func(n int64) cells) {
+	p := api.Pack{Name: "great", Year: 2024}
+	for i := range api.MaxGroups {
+		p.Groups = append(p.Groups, api.Group{Name: numbered("g", i), Rows: api.MaxRows})
+	}
+	for i := range 24 {
+		p.Lines = append(p.Lines, api.Line{Name: numbered("l", i), Input: true, Type: api.Cents, Options: -1, Group: i % 4})
+	}
+	for i := range 4 {
+		p.Lines = append(p.Lines, api.Line{Name: numbered("s", i), Type: api.Cents, Options: -1, Group: i, Clauses: []api.Clause{{Body: line(i)}}})
+	}
+	return p, func(n int64) cells {
+		c := cells{}
+		for cell := range uint32(192) {
+			c[cell] = cent(n - api.MaxCents)
+		}
+		for cell := uint32(224); cell < 256; cell++ {
+			c[cell] = yes
+		}
+		return c
+	}
+}
+
+// The greatest books: six branches, as many versions as may be, in each of which all inputs differ. Nothing is refused for the saving's sake.
+func TestP21_1GreatestBook(t *testing.T) {
+	p, inputs := greatest()
+	v, e := eval.New(p)
+	if e != api.OK {
+		t.Fatalf("eval.New: error %d", int(e))
+	}
+	data := put(t, p)
+	d, want := opened(t, data), newBook()
+	do := func(c api.Cmd, kind byte, in cells) {
+		t.Helper()
+		if r := d.Do(c); r.Err != api.OK {
+			t.Fatalf("kind %d: error %d", c.Kind, int(r.Err))
+		}
+		want.do(kind, in, c.N, c.Name)
+	}
+	n := int64(0)
+	for i := range api.MaxBranches {
+		name := numbered("b", i)
+		if i > 0 {
+			do(named(api.CmdFork, name), 5, nil)
+			do(named(api.CmdSwitch, name), 6, nil)
+		}
+		for range api.MaxHistory {
+			n++
+			in := inputs(n)
+			pages, e := sheet.Print(p, in.trie(), v.All(in.trie()))
+			if e != api.OK {
+				t.Fatalf("Print: error %d", int(e))
+			}
+			do(importing(pages), 1, in)
+		}
+		for range 20 {
+			do(cmd(api.CmdUndo), 2, nil)
+			do(cmd(api.CmdRedo), 3, nil)
+		}
+	}
+	summary, _ := held(t, d, pack.Sum(data))
+	if len(summary) < 300000 {
+		t.Errorf("a summary of %d bytes", len(summary))
+	}
+	other, e := modelAt(t, data, d.Files())
+	if e != api.OK || other.book.state() != want.state() {
+		t.Errorf("error %d, or another book", int(e))
+	}
+	if r := d.Do(cmd(api.CmdReopen)); r.Err != api.OK || !slices.Equal(d.Do(cmd(api.CmdAll)).Vals, v.All(want.inputs().trie())) {
+		t.Errorf("reopen: error %d, or other values", int(r.Err))
+	}
 }
 
 // apart: what all lines of all branches show, told by a desk over a copy of the disk.
@@ -88,7 +163,7 @@ func (p *pair) apart() map[string]string {
 // What is done on a branch isn't seen on another; what was done and undone is as it was.
 func TestP21_3Apart(t *testing.T) {
 	seen := tally{}
-	eachPair(t, 2103, 40, 8, false, func(p *pair, d *director) {
+	eachPair(t, 2103, 25, 8, false, func(p *pair, d *director) {
 		d.deep = false
 		for range 40 {
 			before, on := p.apart(), p.desk.Branch()
@@ -120,7 +195,7 @@ func TestP21_3Apart(t *testing.T) {
 		}
 	})
 	for _, kind := range []int{api.CmdSet, api.CmdClear, api.CmdAdd, api.CmdDrop, api.CmdMerge, api.CmdImport} {
-		seen.atLeast(t, 5, fmt.Sprint("kind ", kind))
+		seen.atLeast(t, 2, fmt.Sprint("kind ", kind))
 	}
 }
 
@@ -169,7 +244,7 @@ func TestP21_4Shown(t *testing.T) {
 // Pages that are imported at another desk of the same pack make its inputs the same.
 func TestP21_8Paper(t *testing.T) {
 	n := 0
-	eachPair(t, 2108, 60, 14, false, func(p *pair, d *director) {
+	eachPair(t, 2108, 40, 14, false, func(p *pair, d *director) {
 		other := newPair(t, put(t, d.pack))
 		for range 30 {
 			p.do(d.changing())
@@ -319,7 +394,7 @@ func (d *director) anyRecords() []api.Record {
 // Every content of the disk, every list of commands: a desk answers, and as the model does.
 func TestP21_9Total(t *testing.T) {
 	seen := tally{}
-	eachPair(t, 2109, 120, 6, true, func(p *pair, d *director) {
+	eachPair(t, 2109, 80, 6, true, func(p *pair, d *director) {
 		data := put(t, d.pack)
 		for range 8 {
 			for range 20 {
